@@ -1,0 +1,1 @@
+"""Rulevoices: what combining allow and deny can promise."""
