@@ -1,10 +1,11 @@
 """The checks of arguments: each returns nothing, or raises the error for an invalid value."""
 
-from rulevoices.errors import BadPromise, BadPromises, BadRow, BadTable, BadWay
+from rulevoices.errors import BadNumber, BadPromise, BadPromises, BadRow, BadTable, BadWay, NotText
 from rulevoices.rows import SMALL_ROWS
 from rulevoices.words import PROMISES, VOICES, WAYS
 
 MOST_VOICES = 12
+GREATEST_LENGTH = 60
 
 
 def check_way(way):
@@ -43,6 +44,21 @@ def check_table(table):
     wrong = _first_wrong(table)
     if wrong is not None:
         raise BadTable(wrong)
+
+
+def check_length(length):
+    """Raise BadNumber unless the value is an integer from 1 to 60."""
+    # To Python True and False are integers, too.
+    if not isinstance(length, int) or isinstance(length, bool):
+        raise BadNumber("not an integer")
+    if not 1 <= length <= GREATEST_LENGTH:
+        raise BadNumber("not a number from 1 to 60")
+
+
+def check_text(text):
+    """Raise NotText unless the value is a string."""
+    if not isinstance(text, str):
+        raise NotText("not a string")
 
 
 def _first_wrong(items):

@@ -3,6 +3,7 @@
 Nothing here uses the package, so that the tests compare two programs that share no code.
 """
 
+import functools
 import itertools
 import re
 
@@ -134,6 +135,97 @@ def all_tables():
         "".join(signs): kept_by(dict(zip(rows, signs)), 3)
         for signs in itertools.product("+-", repeat=14)
     }
+
+
+def by_parts(small, row, cut=1):
+    """Return what six answers, in signs, say of a row that is parted behind its first voices."""
+    told = dict(zip(rows_up_to(2), small))
+    if len(row) == 1:
+        return told[row]
+    return told[by_parts(small, row[:cut]) + by_parts(small, row[cut:])]
+
+
+def goes_by_parts(small, longest):
+    """Return whether six answers say the same of each row up to a length, wherever parted."""
+    told = {row: by_parts(small, row) for row in rows_up_to(longest)}
+    return all(told[row] == voice for row, voice in zip(told, small)) and parts(told, longest)
+
+
+# Each way as a machine that hears a row voice by voice: its state behind the first voice, the
+# next state, and the answer in a state. A balance is the number of + less that of -.
+MACHINES = {
+    "allow over": (lambda s: s, lambda state, s: "+" if s == "+" else state, lambda state: state),
+    "always allow": (lambda s: "+", lambda state, s: state, lambda state: state),
+    "always deny": (lambda s: "-", lambda state, s: state, lambda state: state),
+    "both ends": (lambda s: s + s, lambda state, s: state[0] + s, lambda state: sign(state == "++")),
+    "deny over": (lambda s: s, lambda state, s: "-" if s == "-" else state, lambda state: state),
+    "first": (lambda s: s, lambda state, s: state, lambda state: state),
+    "island": (
+        lambda s: s, lambda state, s: state if state[-1] == s else (state + s)[:4],
+        lambda state: sign(state in ("+", "-+-")),
+    ),
+    "last": (lambda s: s, lambda state, s: s, lambda state: state),
+    "most or allow": (
+        lambda s: int(s + "1"), lambda state, s: state + int(s + "1"),
+        lambda state: sign(state >= 0),
+    ),
+    "most or deny": (
+        lambda s: int(s + "1"), lambda state, s: state + int(s + "1"),
+        lambda state: sign(state > 0),
+    ),
+    "most or first": (
+        lambda s: (int(s + "1"), s), lambda state, s: (state[0] + int(s + "1"), state[1]),
+        lambda state: sign(state[0] > 0 or state == (0, "+")),
+    ),
+    "most or last": (
+        lambda s: (int(s + "1"), s), lambda state, s: (state[0] + int(s + "1"), s),
+        lambda state: sign(state[0] > 0 or state == (0, "+")),
+    ),
+    "odd": (lambda s: s, lambda state, s: "+" if state == s else "-", lambda state: state),
+}
+
+
+def counts_by_machine(way, longest):
+    """Return two dicts: for each length the number of rows allowed, and the powers of all places.
+
+    For a place, the states behind the rows before it are counted, and for both states that can
+    follow, in how many of the continuations their answers differ.
+    """
+    start, step, said = MACHINES[way]
+    reached = {1: {}}
+    for one in "+-":
+        reached[1][start(one)] = reached[1].get(start(one), 0) + 1
+    for length in range(2, longest + 1):
+        reached[length] = {}
+        for state, many in reached[length - 1].items():
+            for one in "+-":
+                new = step(state, one)
+                reached[length][new] = reached[length].get(new, 0) + many
+
+    @functools.cache
+    def parted(left, right, more):
+        if more == 0:
+            return int(said(left) != said(right))
+        return sum(parted(step(left, one), step(right, one), more - 1) for one in "+-")
+
+    def matters_in(length, place):
+        more = length - place - 1
+        if place == 0:
+            return 2 * parted(start("+"), start("-"), more)
+        return 2 * sum(
+            many * parted(step(state, "+"), step(state, "-"), more)
+            for state, many in reached[place].items()
+        )
+
+    lengths = range(1, longest + 1)
+    allowed = {
+        length: sum(many for state, many in reached[length].items() if said(state) == "+")
+        for length in lengths
+    }
+    powers = {
+        length: tuple(matters_in(length, place) for place in range(length)) for length in lengths
+    }
+    return allowed, powers
 
 
 def all_sets():
